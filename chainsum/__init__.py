@@ -1,0 +1,1 @@
+"""Chainsum: numbers told by chains of quotients, reckoned as they come."""
