@@ -25,6 +25,12 @@ def is_begun(thing):
     return is_whole_number(thing[0]) and thing[0] >= 0 and _are_later_quotients(thing[1:])
 
 
+def is_chain_above_0(thing):
+    """Return True where the thing is the chain of a number above 0."""
+    # What stands behind a first quotient adds something from 0 to 1, so the first one tells, but for 0 alone.
+    return is_chain(thing) and thing[0] >= 0 and thing != [0]
+
+
 def fraction_of(chain):
     """Return the fraction that a chain tells, as (top, bottom) in lowest terms."""
     if not is_chain(chain):

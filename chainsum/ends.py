@@ -1,6 +1,6 @@
 """The two ends between which the numbers lie that a beginning stands for."""
 
-from chainsum.chains import is_begun, is_chain, value_of
+from chainsum.chains import is_begun, is_chain_above_0, value_of
 from chainsum.errors import BadChain
 
 
@@ -11,7 +11,7 @@ def ends_of(begun):
     if len(begun) == 0:
         return (0, 1), False, None, False
     near = value_of(begun)
-    near_is_met = is_chain(begun) and near[0] > 0
+    near_is_met = is_chain_above_0(begun)
     far = value_of(begun[:-1] + [begun[-1] + 1])
     # A greater quotient at the places 0, 2, 4 and so on makes the number greater, at the others less.
     if len(begun) % 2 == 1:

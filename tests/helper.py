@@ -1,7 +1,10 @@
 """What the tests share: things to hand in, and a second way to reckon what is told."""
 
+import operator
 from decimal import Decimal
 from fractions import Fraction
+
+DEEDS = {"plus": operator.add, "less": operator.sub, "times": operator.mul, "over": operator.truediv}
 
 
 class Unruly:
@@ -46,6 +49,38 @@ def lists_of_neither():
     return found
 
 
+def no_words():
+    """Things, made anew each time, that are none of the four words."""
+    return no_numbers() + no_lists() + [
+        0, 1, -1, "Plus", "PLUS", " plus", "plus ", "plus\n", "plu", "pluss", "minus", "+", "add", "pluslesstimesover",
+        "plus less", "more", b"plus", b"over", ["plus"], ("plus",), {"plus"}, {"plus": "plus"},
+        ("plus", "less", "times", "over"), ["plus", "less", "times", "over"],
+    ]
+
+
+def no_chains_above_0():
+    """Things, made anew each time, that are no chains of a number above 0."""
+    return no_lists() + lists_of_neither() + [
+        [], [0, 1], [3, 1], [1, 1], [3, 7, 1], [0, 1, 1], [10 ** 30, 1], [-1, 1],
+        [0], [-1], [-3], [-1, 2], [-3, 7, 16], [-10 ** 30, 2], [-1, 1, 10 ** 30], [-10 ** 5000, 2],
+    ]
+
+
+def no_numbers_that_come():
+    """Things, made anew each time, that are no tuple (quotients, whole) as is asked for."""
+    found = no_lists() + lists_of_neither() + [
+        [], [3], [3, 7], [[3], True], [[3, 7], False], ([3],), ([3], True, True), ([3], False, None), (True, [3]),
+        (False, [3]), ([3], [7]), (3, True), (3, False), (3, 7), (([3], True),), (([3], True), False), ([[3]], False),
+    ]
+    for thing in no_numbers() + [0, 1, -1, "True", "whole", Unruly()]:
+        if thing is not True and thing is not False:
+            found.extend([([3], thing), ([], thing)])
+    found.extend((thing, True) for thing in no_chains_above_0())
+    for thing in no_lists() + lists_of_neither() + [[-1], [-3], [-1, 2], [-3, 7, 16], [-10 ** 30, 2]]:
+        found.append((thing, False))
+    return found
+
+
 def lists_of_few(firsts, others, most):
     """All lists of one to so many quotients, the first one of these, the others of those."""
     found = [[first] for first in firsts]
@@ -69,16 +104,26 @@ def number_of(quotients):
     return number
 
 
+def quotients_of(number):
+    """The chain of one of Python's own fractions."""
+    top, bottom = pair_of(number)
+    found = []
+    while bottom:
+        found.append(top // bottom)
+        top, bottom = bottom, top % bottom
+    return found
+
+
 def pair_of(number):
     return (number.numerator, number.denominator)
 
 
-def long_chains():
+def long_chains(lengths=(1, 2, 3, 5, 8, 30, 59, 60, 61), firsts=(-10 ** 30 - 7, -3, -1, 0, 1, 2, 10 ** 29 + 1)):
     """Chains of some sixty quotients: thirty figures, ones and twos among them."""
     found = []
     seed = 20261119
-    for length in (1, 2, 3, 5, 8, 30, 59, 60, 61):
-        for first in (-10 ** 30 - 7, -3, -1, 0, 1, 2, 10 ** 29 + 1):
+    for length in lengths:
+        for first in firsts:
             quotients = [first]
             while len(quotients) < length:
                 # A plain row of numbers that leap about, the same in each run.
