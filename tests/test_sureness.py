@@ -162,10 +162,10 @@ class Plain(Case):
 
 
 class AllThatTheyComeTo(Case):
-    def check_all(self, ones, others):
+    def check_all(self, ones, others, words=WORDS):
         numbers = {id(number): stood_for(number) for number in ones + others}
         chains = {}
-        for word in WORDS:
+        for word in words:
             for one in ones:
                 for other in others:
                     told = self.ask(word, one, other)
@@ -184,6 +184,22 @@ class AllThatTheyComeTo(Case):
     def test_of_one_that_is_whole(self):
         self.check_all(WHOLE[::2], COMING)
         self.check_all(COMING, WHOLE[1::2])
+
+    def test_where_an_end_is_brought_to_a_short_chain(self):
+        back = {"plus": "less", "less": "plus", "times": "over", "over": "times"}
+        for quotients in FEW[1:]:
+            begun = (quotients, False)
+            for end in (number_of(quotients), number_of(quotients[:-1] + [quotients[-1] + 1])):
+                for reached in (Fraction(1), Fraction(2), Fraction(1, 2), Fraction(5, 3), Fraction(0), Fraction(-4, 3)):
+                    for word in WORDS:
+                        one = DEEDS[back[word]](reached, end) if end != 0 or word != "times" else 0
+                        if one > 0:
+                            self.check_all([(quotients_of(one), True)], [begun], (word,))
+
+    def test_of_two_that_are_alike_for_long(self):
+        ahead = [1, 2, 1, 1, 3, 1, 4, 2]
+        some = [(ahead + tail, False) for tail in ([], [1], [2], [3], [1, 1], [2, 5], [1, 1, 7])]
+        self.check_all(some, some + [(ahead, True), (ahead + [2], True), (ahead + [1, 2], True)])
 
     def test_of_0_alone_and_of_a_last_quotient_of_1(self):
         some = [([0], False), ([0, 1], False), ([1], False), ([1, 1], False), ([2, 1, 1], False), ([0, 1, 1, 1], False)]
